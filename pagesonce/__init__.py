@@ -1,0 +1,1 @@
+"""Plans for printing that no cut can spoil."""
