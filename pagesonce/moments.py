@@ -2,8 +2,8 @@
 
 from pagesonce.errors import BadValue
 from pagesonce.plans import check_fit
-from pagesonce.steps import FIRST_MOMENT, House, after, open_choices
-from pagesonce.values import is_flag, is_integer, is_number, is_sequence
+from pagesonce.steps import FIRST_MOMENT, House, after, is_choice, open_choices
+from pagesonce.values import is_flag, is_number, is_sequence, is_told
 
 MOST_NUMBER = 10 ** 9
 
@@ -27,7 +27,7 @@ def moment(printer, plan, pages, course):
     house = House(printer, plan)
     now = FIRST_MOMENT
     for choice in course:
-        if not is_integer(choice) or choice not in open_choices(house, now):
+        if not is_choice(house, now, choice):
             raise BadValue(4)
         now = after(house, pages, now, choice)
     return now
@@ -57,6 +57,4 @@ def _are_numbers(values):
 
 
 def _is_way(value):
-    if is_sequence(value):
-        return len(value) == 2 and value[0] == "told" and is_flag(value[1])
-    return value is None or is_number(value, -MOST_NUMBER, MOST_NUMBER)
+    return value is None or is_told(value) or is_number(value, -MOST_NUMBER, MOST_NUMBER)

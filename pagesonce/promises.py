@@ -1,7 +1,7 @@
 """What a promise is, and by which steps it is broken at once."""
 
 from pagesonce.errors import BadValue
-from pagesonce.steps import CUT_LYING, LIE, is_sheet, puts
+from pagesonce.steps import CUT_LYING, LIE, after, is_sheet, puts
 
 ONCE = "once"
 LEAST = "least"
@@ -9,14 +9,26 @@ LEAST = "least"
 SLACK = 3
 
 
+def is_promise(value):
+    """Whether a value is a promise."""
+    return value in (ONCE, LEAST)
+
+
 def check_promise(promise, place):
     """Raise BadValue with its place unless this is a promise."""
-    if promise not in (ONCE, LEAST):
+    if not is_promise(promise):
         raise BadValue(place)
 
 
-def breaks_at_once(house, promise, pages, moment, choice, ahead):
-    """Whether the promise is broken at once by a choice that leads from moment to ahead."""
+def unbroken_after(house, promise, pages, moment, choice):
+    """The moment behind a choice, or None if the promise is broken at once by it."""
+    ahead = after(house, pages, moment, choice)
+    if _breaks_at_once(house, promise, pages, moment, choice, ahead):
+        return None
+    return ahead
+
+
+def _breaks_at_once(house, promise, pages, moment, choice, ahead):
     if choice in (LIE, CUT_LYING) and _lies_wrong(house, promise, pages, moment):
         return True
     return _ends_wrong(pages, moment, ahead) or _is_lost(ahead)

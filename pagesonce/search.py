@@ -1,7 +1,8 @@
 """The kinds of moments that come about, the nearest first."""
 
-from pagesonce.kinds import first_samples, next_samples, rises
-from pagesonce.steps import open_choices
+from pagesonce.kinds import first_samples, next_samples
+from pagesonce.runs import stretch
+from pagesonce.steps import open_choices, rises
 
 
 class Search:
@@ -68,32 +69,10 @@ class Search:
         while waiting:
             head, risen = waiting.pop()
             if head not in self.ending:
-                passed, heads = self._stretch(head)
+                passed, heads = stretch(self.house, self.promise, head, self.ending)
                 if heads is None:
                     return risen + head[1]
                 for one in passed:
                     self.ending[one] = True
                 waiting.extend([(one, risen + 1) for one in heads])
         return None
-
-    def _stretch(self, head):
-        """The samples of a run until last rises, and those behind that; None if one comes again."""
-        passed = {}
-        sample = head
-        while sample not in passed:
-            passed[sample] = True
-            choice, nexts = self._run_step(sample)
-            if not nexts or rises(sample[0], choice):
-                return (passed, nexts)
-            sample = nexts[0]
-            if sample in self.ending:
-                return (passed, [])
-        return (passed, None)
-
-    def _run_step(self, sample):
-        """The choice of the run, and the samples behind it; none behind an end or a break."""
-        options = open_choices(self.house, sample[0])
-        if not options:
-            return (None, [])
-        # The house's going on is the first of the choices, the sheet's coming to lie the next.
-        return (options[0], next_samples(self.house, self.promise, sample, options[0]))

@@ -4,6 +4,7 @@ A moment is (line, at, ok, note, way, last, lying).
 """
 
 from pagesonce.plans import asks_count
+from pagesonce.values import is_integer
 
 GO_ON = 0
 LIE = 1
@@ -40,6 +41,23 @@ def open_choices(house, moment):
     if house.rows[line][0] in ("send", "wait"):
         return (LIE, JAM, CUT_LYING, CUT_LOSING)
     return (GO_ON, LIE, JAM, CUT_LYING, CUT_LOSING)
+
+
+def is_choice(house, moment, value):
+    """Whether a value is one of the choices at a moment."""
+    return is_integer(value) and value in open_choices(house, moment)
+
+
+def run_choice(house, moment):
+    """The choice when nothing comes between: going on, or else lying; None at the end."""
+    options = open_choices(house, moment)
+    # Going on is the first of the choices, the sheet's coming to lie the next.
+    return options[0] if options else None
+
+
+def rises(moment, choice):
+    """Whether last becomes greater by a choice."""
+    return choice in (LIE, CUT_LYING) and moment[4] > moment[5]
 
 
 def after(house, pages, moment, choice):

@@ -19,3 +19,8 @@ def is_flag(value):
 def is_sequence(value):
     """Whether a value is a list or a tuple."""
     return isinstance(value, (list, tuple))
+
+
+def is_told(value):
+    """Whether a value is ("told", True) or ("told", False)."""
+    return is_sequence(value) and len(value) == 2 and value[0] == "told" and is_flag(value[1])

@@ -2,7 +2,7 @@
 
 import unittest
 
-from pagesonce.errors import BadLine, BadValue
+from pagesonce.errors import BadLine, BadSyntax, BadValue
 
 # None of these is a number of pages, a course, a moment or a promise.
 ODD_VALUES = (None, True, False, -1, 10 ** 30, "", "ones", "Once", [], (), [[]], ((),), ["once"],
@@ -24,6 +24,11 @@ class Case(unittest.TestCase):
 
     def assertBadLine(self, at, call, *values):
         with self.assertRaises(BadLine, msg=repr(values)) as caught:
+            call(*values)
+        self.assertEqual(caught.exception.at, at, values)
+
+    def assertBadSyntax(self, at, call, *values):
+        with self.assertRaises(BadSyntax, msg=repr(values)) as caught:
             call(*values)
         self.assertEqual(caught.exception.at, at, values)
 

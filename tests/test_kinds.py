@@ -3,10 +3,11 @@
 import itertools
 import unittest
 
-from helpers import Case
-from pagesonce.kinds import kind_of, kind_rank
+from helpers import Case, as_lists
+from pagesonce.kinds import kind_of, kind_rank, sample_of
 from pagesonce.plans import Plan
-from reference import Job, Moment, order
+from pagesonce.steps import House
+from reference import Job, Moment, is_kind, order
 from samples import COUNT_LINES, PRINTERS
 
 PAIRS = ((0, -3), (0, -1), (0, 0), (0, 1), (0, 3), (1, 0), (1, 3))
@@ -48,6 +49,17 @@ class Kinds(Case):
         for way in (None, ("told", True), ("told", False)):
             kind = kind_of(((None, 1, True, 0, way, 8, 8), 0))
             self.assertSame(kind, (None, (1, 1), True, (1, 0), way, (0, 0), 8, 0))
+
+    def test_samples_of_kinds(self):
+        house = House(PRINTERS[4], Plan(COUNT_LINES))
+        for at, note, way, lying, small, left in itertools.product(
+                PAIRS, PAIRS[:3], WAYS, PAIRS[2:], (0, 3, 4, 7, 8), (0, 5)):
+            kind = (2, at, True, note, way, lying, small, left)
+            sample = sample_of(house, kind)
+            self.assertIs(sample is not None, is_kind(Plan(COUNT_LINES), kind))
+            if sample is not None:
+                self.assertSame(kind_of(sample), kind)
+                self.assertSame(sample_of(house, as_lists(kind)), sample)
 
 
 if __name__ == "__main__":

@@ -4,9 +4,11 @@ import itertools
 import unittest
 
 from helpers import Case, as_lists
+from pagesonce.checking import book_holds, breaks
 from pagesonce.deciding import decide, idle_lines
 from pagesonce.moments import choices, moment
 from pagesonce.plans import Plan, Printer
+from pagesonce.running import costs
 from samples import COUNT_LINES, NOTE_LINES, PRINTERS, SIXTEEN_LINES
 
 NO_FLAGS = (0, 1, None, "True", "", (), [], (True,), [False], 2)
@@ -171,11 +173,17 @@ class Fitting(Case):
         lambda printer, plan: moment(printer, plan, 1, ()),
         lambda printer, plan: decide(printer, plan, "once"),
         lambda printer, plan: idle_lines(printer, plan, "once"),
+        lambda printer, plan: breaks(printer, plan, "once", (1, ())),
+        lambda printer, plan: book_holds(printer, plan, "once", ()),
+        lambda printer, plan: costs(printer, plan, "once", 1),
         # What is wrong behind them is told later.
         lambda printer, plan: choices(printer, plan, None, None) if unfit(printer, plan) else None,
         lambda printer, plan: moment(printer, plan, None, None) if unfit(printer, plan) else None,
         lambda printer, plan: decide(printer, plan, None) if unfit(printer, plan) else None,
         lambda printer, plan: idle_lines(printer, plan, None) if unfit(printer, plan) else None,
+        lambda printer, plan: breaks(printer, plan, None, None) if unfit(printer, plan) else None,
+        lambda printer, plan: book_holds(printer, plan, None, None) if unfit(printer, plan) else None,
+        lambda printer, plan: costs(printer, plan, None, None) if unfit(printer, plan) else None,
     )
 
     def test_no_printer(self):
