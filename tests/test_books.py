@@ -242,6 +242,25 @@ class FormOfKinds(Case):
                 self.assertFalse(is_kind(PLAN, kind))
                 self.assertIs(self.added(kind), False, kind)
 
+    def test_numbers_of_lines(self):
+        """All that comes behind a kind of the last line is there, but no line has these numbers."""
+        plan = Plan(COUNT_LINES + (("go", 0),))
+        base = (7, (0, 1), False, (0, 2), None, (0, 0), 0, 0)
+        book = with_kinds(book_of(COUNTER, plan), closed(COUNTER, plan, "once", [base]))
+        self.assertIs(book_holds(COUNTER, plan, "once", book), True)
+        few = sum(kind[0] is None for kind in book)
+        for line in (-1, -8, 8, 16):
+            kind = changed(base, 0, line)
+            for at in list(range(few + 1)) + [len(book)]:
+                value = book[:at] + (kind,) + book[at:]
+                self.assertIs(book_holds(COUNTER, plan, "once", value), False)
+
+    def test_last_below_none(self):
+        kind = (None, (0, 1), False, (0, 1), None, (0, 1), -1, 0)
+        self.assertIs(self.added(kind), False)
+        self.assertIs(self.added((None, (0, 0), False, (0, 0), None, (0, 0), 9, 0)), False)
+        self.assertIs(self.added((None, (0, -1), False, (0, -1), None, (0, -1), 1, 0)), True)
+
     def test_true_and_false_in_place_of_numbers(self):
         """In the place of the very kind that they are equal to."""
         book = book_of(COUNTER, PLAN)
@@ -276,6 +295,14 @@ class FormOfKinds(Case):
         self.assertEqual(self.check([changed(ENDED, 4, way) for way in ways]), (3, 3))
         far = (None, (1, 0), False, (1, 0), None, (1, 0), 8, 0)
         self.assertEqual(self.check([changed(far, 4, way) for way in (None, (1, 0), (0, 1))]), (1, 2))
+        # Even where the printer would not take the sheet, and all that comes behind it is there.
+        kinds = [changed(far, 4, ("told", False)), changed(far, 4, ("told", True))]
+        book = with_kinds(book_of(TAKER, PLAN), kinds)
+        self.assertIs(book_holds(TAKER, PLAN, "once", book), True)
+        for way in ((0, 0), (1, 1)):
+            sheet = changed(far, 4, way)
+            self.assertEqual(sorted(kinds_behind(TAKER, PLAN, "once", sheet)[0]), kinds)
+            self.assertIs(book_holds(TAKER, PLAN, "once", with_kinds(book, [sheet])), False)
 
     def test_lists_in_place_of_tuples(self):
         kind = changed(changed(ENDED, 3, (0, 2)), 4, ("told", False))
